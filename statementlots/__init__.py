@@ -1,0 +1,1 @@
+"""Statementlots: triggers that see the whole statement."""
