@@ -21,6 +21,20 @@ def is_list(thing):
     return isinstance(thing, (list, tuple))
 
 
+def is_names(thing, least, most):
+    """Tell whether any object is a list of different names, at least and at most so many (None is no bound)."""
+    if not is_list(thing) or len(thing) < least:
+        return False
+    if most is not None and len(thing) > most:
+        return False
+    return all([is_name(name) for name in thing]) and are_different(thing)
+
+
+def are_different(texts):
+    """Tell whether the strings of a list are all different."""
+    return len(set(texts)) == len(texts)
+
+
 def pairs_of(thing):
     """Return the list of the pairs of a dict, for which an empty list may stand."""
     if isinstance(thing, dict):
