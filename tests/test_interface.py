@@ -6,6 +6,9 @@ import unittest
 
 FUNCTIONS = {
     "runs": {"run": "book, table, statement, picks=None", "class_of": "book, table", "least_table": "book, numbers"},
+    "papers": {"outcome": "book, statement, numbers", "calls": "book, statements", "is_paper": "book, rows"},
+    "same": {"unlike": "book, one, two", "books_unlike": "first, second, statements", "idle": "book, statements"},
+    "cuts": {"two_goes": "book, table, statement, first, second", "uncuttable": "book, statement"},
 }
 CLASSES = {
     "tables": {"Table": ("rows, counters=()", {
