@@ -117,15 +117,6 @@ class Walk:
         self.mixes = {name: self.scope.blend(number, parts, self.mixes) for name, number, parts in inner.effect()}
         self.fates = {kind: inner.fates.get(fate, GONE) for kind, fate in self.fates.items()}
 
-    def do_list(self, statements, ledger):
-        """Do a list of statements, each of which takes all of its rows, one behind another, as far as this can be."""
-        for statement in statements:
-            if self.end == "":
-                numbers = self.class_now()
-                self.do_inner(statement, numbers, ledger.call_of(statement, numbers))
-        if self.end == "":
-            self.end = DONE
-
     def parting(self, other):
         """Return what is to be added to each unknown of the scope so that another walk ends unlike this one, or None.
 
@@ -197,6 +188,18 @@ class Ledger:
         """Return the call of a statement and a class, at its end."""
         call = self.known(statement, numbers)
         return self.finished(self.begun(statement, numbers)) if call is None else call
+
+    def walk_of_list(self, scope, statements):
+        """Return the walk of a list of statements, which all take all of their rows, one behind another."""
+        walk = Walk(self._book, scope, scope.tables_of(self._book.kinds))
+        for statement in statements:
+            # What comes behind the first statement that is refused or endless does not count.
+            if walk.end == "":
+                numbers = walk.class_now()
+                walk.do_inner(statement, numbers, self.call_of(statement, numbers))
+        if walk.end == "":
+            walk.end = DONE
+        return walk
 
     def begun(self, statement, numbers):
         """Return a new call."""

@@ -2,17 +2,10 @@
 
 from statementlots.classes import all_classes, by_size
 from statementlots.errors import Unknown
-from statementlots.ledgers import Ledger, Walk
+from statementlots.ledgers import Ledger
 from statementlots.mixes import Scope
 from statementlots.runs import check_statement
 from statementlots.tables import Table
-
-
-def end_of(book, ledger, scope, statements):
-    """Return the walk of a list of statements, one behind another, through all tables of a scope."""
-    walk = Walk(book, scope, scope.tables_of(book.kinds))
-    walk.do_list(statements, ledger)
-    return walk
 
 
 def least_apart(first, second, pairs):
@@ -28,7 +21,7 @@ def least_apart(first, second, pairs):
             return best
         scope = Scope(numbers, bound, first.counters)
         for one, two in pairs:
-            more = end_of(first, ledgers[0], scope, one).parting(end_of(second, ledgers[1], scope, two))
+            more = ledgers[0].walk_of_list(scope, one).parting(ledgers[1].walk_of_list(scope, two))
             if more is not None and (best is None or sum(numbers) + sum(more[:len(numbers)]) < best.size()):
                 rows = [number + others for number, others in zip(numbers, more)]
                 best = Table(dict(zip(first.kinds, rows)), dict(zip(first.counters, more[len(numbers):])))

@@ -32,8 +32,9 @@ def numbers_of(many, size):
     return [(first, *others) for first in range(size + 1) for others in numbers_of(many - 1, size - first)]
 
 
-def tables_of(book, size, worths=(0, 1, -7)):
-    """Return all tables that have so many rows and, for each counter, one of some worths."""
+def tables_of(book, size, few=False):
+    """Return all tables that have so many rows, with some worths of the counters, or with a few."""
+    many = len(book.counters)
+    worths = [(0, 0, 0)[:many], (3, -5, 11)[:many]] if few else list(itertools.product((0, 1, -7), repeat=many))
     return [Table(dict(zip(book.kinds, numbers)), dict(zip(book.counters, some)))
-            for numbers in numbers_of(len(book.kinds), size)
-            for some in itertools.product(worths, repeat=len(book.counters))]
+            for numbers in numbers_of(len(book.kinds), size) for some in worths]

@@ -240,10 +240,10 @@ class Uncuttable(unittest.TestCase):
                                in_two(book, table, statement, first, second)))
         self.check_smaller(book, statement, range(size))
 
-    def check_smaller(self, book, statement, sizes, worths=(0, 1, -7)):
+    def check_smaller(self, book, statement, sizes, few=False):
         """Check that there is no other answer with so many rows."""
         for size in sizes:
-            for table in tables_of(book, size, worths):
+            for table in tables_of(book, size, few):
                 for first, second in picks_of({kind: table.rows(kind) for kind in statement.reads()}):
                     if sum(first.values()) and sum(second.values()):
                         self.assertTrue(alike(in_one(book, table, statement, first, second),
@@ -344,7 +344,7 @@ class Uncuttable(unittest.TestCase):
     def test_books_by_chance(self):
         chance = random.Random(59)
         sizes = {}
-        for _ in range(330):
+        for _ in range(250):
             book = book_by(chance)
             statement = statement_by(chance, book.kinds)
             if not statement.reads() or (book.cap + 1) ** (len(book.kinds) + 2 * len(statement.reads())) > 800:
@@ -359,7 +359,7 @@ class Uncuttable(unittest.TestCase):
             size = None if found is None else found[0].size()
             self.check(book, statement, size)
             if size is None:
-                self.check_smaller(book, statement, range(5), (0, 3))
+                self.check_smaller(book, statement, range(5), True)
             sizes[size] = sizes.get(size, 0) + 1
         self.assertGreater(min(sizes[size] for size in (None, 2, 3)), 1, sizes)
 
@@ -370,7 +370,7 @@ class ManyGoes(unittest.TestCase):
     def test_books_by_chance(self):
         chance = random.Random(61)
         checked = 0
-        for _ in range(900):
+        for _ in range(700):
             book = book_by(chance)
             statement = Statement(statement_by(chance, book.kinds).turns())
             if not statement.reads() or (book.cap + 1) ** (len(book.kinds) + 2 * len(statement.reads())) > 800:
@@ -390,7 +390,7 @@ class ManyGoes(unittest.TestCase):
             if uncuttable(book, statement) is None:
                 self.assertTrue(alike(one, many), (book.text(), statement.text(), rows, goes))
                 checked += 1
-        self.assertGreater(checked, 60)
+        self.assertGreater(checked, 50)
 
 
 def stays_away(book, statement):

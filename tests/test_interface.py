@@ -1,4 +1,4 @@
-"""The names, the arguments and the places that the interface of the document gives to what has landed."""
+"""The names, the arguments and the places that the interface of the document gives to the program."""
 
 import importlib
 import inspect
@@ -8,6 +8,11 @@ FUNCTIONS = {
     "runs": {"run": "book, table, statement, picks=None", "class_of": "book, table", "least_table": "book, numbers"},
     "papers": {"outcome": "book, statement, numbers", "calls": "book, statements", "is_paper": "book, rows"},
     "same": {"unlike": "book, one, two", "books_unlike": "first, second, statements", "idle": "book, statements"},
+    "sums": {"kept": "book, statements, first", "is_kept": "book, statements, first, form",
+             "breaking": "book, statements, first, form", "shown": "book, statements, first"},
+    "many": {"done_many": "book, statements, table, times, modulus"},
+    "known": {"adding": "", "telling": "", "guarding": "number", "logging": "number", "falling": "width",
+              "ringing": ""},
     "cuts": {"two_goes": "book, table, statement, first, second", "uncuttable": "book, statement"},
 }
 CLASSES = {
@@ -26,6 +31,9 @@ CLASSES = {
         "Book": ("kinds, counters, triggers", {"__eq__": "other", "text": "", "parse": "text"},
                  ["kinds", "counters", "triggers", "cap"])},
     "runs": {"Outcome": (None, {"fired": ""}, ["table"])},
+    "bases": {"Base": ("book, table", {
+        "now": "", "fired": "", "do": "statement, picks=None", "do_all": "statements", "undo": "", "again": ""},
+        ["book"])},
 }
 
 

@@ -7,13 +7,15 @@ from statementlots.books import Book, Trigger
 from statementlots.cuts import two_goes, uncuttable
 from statementlots.errors import Endless, Refused
 from statementlots.forms import Form
+from statementlots.many import done_many
 from statementlots.papers import calls, is_paper, outcome
 from statementlots.same import books_unlike, idle, unlike
 from statementlots.statements import Statement
+from statementlots.sums import breaking, is_kept, kept, shown
 from statementlots.tables import Table
 
 from chances import book_by, rows_by, statement_by, worths_by
-from ends import shown
+from ends import shown as shown_of
 from model import TooMuch, calls_of
 
 # The same order, and another one.
@@ -55,7 +57,7 @@ def book(names, one):
 
 
 def table(names, one):
-    rows, worths = shown(one)
+    rows, worths = shown_of(one)
     return Table({names[kind]: number for kind, number in rows.items()},
                  {names[counter]: worth for counter, worth in worths.items()})
 
@@ -109,6 +111,35 @@ class OtherNames(unittest.TestCase):
             plain = Book(one.kinds, one.counters, one.triggers[:1])
             self.sizes(books_unlike(one, plain, statements), books_unlike(other, book(names, plain), others))
             self.cuts(names, chance, one, statements[0])
+            first = Table(rows_by(chance, one), worths_by(chance, one))
+            self.sums(names, one, statements[:2], first)
+            self.many(names, one, statements[:2], first)
+
+    def sums(self, names, one, statements, first):
+        other, others, table_of = book(names, one), [statement(names, some) for some in statements], table(names, first)
+        forms = kept(one, statements, first)
+        self.assertEqual(len(kept(other, others, table_of)), len(forms))
+        for some in forms:
+            self.assertTrue(is_kept(other, others, table_of, form(names, some)))
+        for name in [*one.kinds, *one.counters]:
+            self.assertEqual(breaking(other, others, table_of, Form({names[name]: 1})),
+                             breaking(one, statements, first, Form({name: 1})))
+        # Which tables show what is kept is not told by the names.
+        self.assertEqual(shown(other, others, table_of), shown(one, statements, first))
+
+    def many(self, names, one, statements, first):
+        found = []
+        for told in ((one, statements, first), (book(names, one), [statement(names, some) for some in statements],
+                                                table(names, first))):
+            try:
+                found.append(done_many(*told, 10 ** 9, 97))
+            except Refused as error:
+                found.append(error.name)
+            except Endless:
+                found.append(None)
+        if isinstance(found[0], dict):
+            found[0] = {names[name]: worth for name, worth in found[0].items()}
+        self.assertEqual(names.get(found[0], found[0]) if isinstance(found[0], str) else found[0], found[1])
 
     def sizes(self, one, other):
         self.assertEqual(None if one is None else one.size(), None if other is None else other.size())
@@ -147,6 +178,15 @@ class WhatIsPassed(unittest.TestCase):
             idle(one, statements)
             unlike(one, statements, statements[:1])
             books_unlike(one, Book(one.kinds, one.counters, []), statements)
+            first = Table({one.kinds[0]: 3})
+            kept(one, statements, first)
+            breaking(one, statements, first, Form({one.kinds[0]: 1}))
+            shown(one, statements, first)
+            try:
+                done_many(one, statements, first, 5, 7)
+            except (Refused, Endless):
+                pass
+            self.assertTrue(first == Table({one.kinds[0]: 3}))
             self.assertEqual(one.text(), text)
             self.assertEqual([some.text() for some in statements], texts)
             self.assertEqual(calls(one, statements), rows)
