@@ -84,11 +84,15 @@ class Walk:
 
     def take_turn(self, trigger):
         """Let a trigger fire, if its tests hold."""
-        # The tests see no numbers above the cap apart: they hold on all of the tables if they do on the least one.
-        worths = {word: self.scope.least_of(mix) for word, mix in self.worded().items()}
-        if all([holds(test, worths) for test in trigger.tests]):
+        if len(trigger.tests) == 0 or self.all_hold(trigger.tests):
             self.firing.append(trigger.label)
             self._to_do = list(reversed(trigger.deeds))
+
+    def all_hold(self, tests):
+        """Tell whether some tests hold on all of the tables; if not, they hold on none."""
+        # The tests see no numbers above the cap apart, so that the least of the tables stands for all.
+        worths = {word: self.scope.least_of(mix) for word, mix in self.worded().items()}
+        return all([holds(test, worths) for test in tests])
 
     def do_deed(self, deed):
         """Do a deed, other than a statement, of the trigger that has fired last."""
@@ -114,7 +118,8 @@ class Walk:
             self.end = REFUSED
             self.refuser = inner.refuser
             return
-        self.mixes = {name: self.scope.blend(number, parts, self.mixes) for name, number, parts in inner.effect()}
+        after = {name: self.scope.blend(number, parts, self.mixes) for name, number, parts in inner.changes()}
+        self.mixes = {**self.mixes, **after}
         self.fates = {kind: inner.fates.get(fate, GONE) for kind, fate in self.fates.items()}
 
     def parting(self, other):
@@ -141,19 +146,24 @@ class Call(Walk):
         Walk.__init__(self, book, scope, scope.tables_of(book.kinds))
         self.statement = statement
         self.numbers = numbers
-        self._effect = None
+        self._changes = None
         self.begin_whole(statement)
 
     def effect(self):
-        """Return a list: each name of the book with a number and the words that come to it, each so many times."""
+        """Return the list of all names, each with a number and the words that come to it, each so many times."""
+        words = [*self._book.kinds, *self._book.counters]
+        found = []
+        for name, mix in self.mixes.items():
+            parts = [(word, times) for word, times in zip(words, mix[1:]) if times != 0]
+            found.append((name, mix[0], parts))
+        return found
+
+    def changes(self):
+        """Return the part of the effect that tells of the names that do not stay as they are."""
         # Many calls have the same inner call, so that this is told only once.
-        if self._effect is None:
-            words = [*self._book.kinds, *self._book.counters]
-            self._effect = []
-            for name, mix in self.mixes.items():
-                parts = [(word, times) for word, times in zip(words, mix[1:]) if times != 0]
-                self._effect.append((name, mix[0], parts))
-        return self._effect
+        if self._changes is None:
+            self._changes = [told for told in self.effect() if told[1] != 0 or told[2] != [(told[0], 1)]]
+        return self._changes
 
 
 def end_waiting(walks):
@@ -220,7 +230,6 @@ class Ledger:
             if (statement.text(), numbers) in self._calls:
                 # What has begun and is not at its end begins once more within itself.
                 end_waiting([*under_way, self._calls[(statement.text(), numbers)]])
-                under_way = []
             else:
                 under_way.append(self.begun(statement, numbers))
         return walk

@@ -73,6 +73,7 @@ def done_many(book, statements, table, times, modulus):
         numbers, mixes = round_from(book, ledger, numbers, statements)
         rounds.append(mixes)
     start = begun[numbers] if len(rounds) < times else len(rounds)
-    worths = [*[table.rows(kind) for kind in book.kinds], *[table.worth(counter) for counter in book.counters]]
+    rows = [table.rows(kind) for kind in book.kinds]
+    worths = rows + [table.worth(counter) for counter in book.counters]
     ends = dict(zip([*book.kinds, *book.counters], after_rounds(rounds, start, worths, times, modulus)))
     return {name: ends[name] % modulus for name in sorted(ends)}

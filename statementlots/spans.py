@@ -37,6 +37,9 @@ class Span:
 
     def grows_by(self, row):
         """Take a further row, and tell whether the span lacked it."""
+        # A span of all rows lacks none, however great its integers are.
+        if len(self._rows) == len(row):
+            return False
         for place in sorted(self._rows):
             if row[place] != 0:
                 row = cleared(row, self._rows[place], place)
@@ -67,7 +70,8 @@ class Span:
         found = []
         for free in range(width):
             if free not in places:
-                normal = [times if place == free else 0 for place in range(width)]
+                normal = [0] * width
+                normal[free] = times
                 for row, place in zip(rows, places):
                     normal[place] = -row[free] * (times // row[place])
                 found.append(normal)

@@ -20,8 +20,9 @@ def worths_of(book, table):
 
 def worths_after(call, worths):
     """Return the dict of the worths that a call leads to from some worths."""
-    return {name: number + sum([times * worths[word] for word, times in parts])
-            for name, number, parts in call.effect()}
+    changed = {name: number + sum([times * worths[word] for word, times in parts])
+               for name, number, parts in call.changes()}
+    return {**worths, **changed}
 
 
 def check_all(book, statements, first):
@@ -53,8 +54,9 @@ class Comers:
         numbers = class_of_rows(self._book, worths)
         if numbers not in self._spans:
             self._spans[numbers] = Span([])
-        # The 1 makes a space of sums of multiples from one of tables, which need not have the table without rows.
-        if self._spans[numbers].grows_by([1, *[worths[name] for name in self._names]]):
+        row = [worths[name] for name in self._names]
+        # The 1 is for sums of multiples: those of tables lie in their space if the multiples have the sum 1.
+        if self._spans[numbers].grows_by([1, *row]):
             self.ways.append((indexes, worths))
 
     def go_from(self, way):

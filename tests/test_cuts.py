@@ -326,6 +326,11 @@ class Uncuttable(unittest.TestCase):
         book = Book(["a", "b", "c"], [], [Trigger("t", ["a"], [], [(["old.a", "b", "c"], 3, 3)], [bring("b")])])
         self.check(book, turn("a", "a"), 2 + 1)
 
+    def test_rows_of_a_kind_that_is_not_read(self):
+        book = Book(["a", "b", "c", "d"], ["n"], [Trigger("t", ["a", "b", "c"], [], [], [("add", "n", Form({"d": 1}))])])
+        self.check(book, Statement({"a": ["a"], "b": ["a"], "c": ["a"]}), 3)
+        self.check(book, Statement({"c": ["a"]}), 3)
+
     def test_unknown_kinds(self):
         for statement, name in ((turn("z", "y"), "z"), (Statement({"a": ["z"]}, {"y": 1}), "y"), (bring("n"), "n")):
             with self.assertRaises(Unknown) as caught:

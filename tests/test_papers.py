@@ -435,6 +435,12 @@ class Papers(unittest.TestCase):
                 is_paper(guarding(1), [*rows, (bring("open"), numbers, 0, ("endless",)), *rows])
             self.assertEqual(caught.exception.index, index)
 
+    def test_unknown_kinds(self):
+        for numbers in ((0, 0), None):
+            with self.assertRaises(Unknown) as caught:
+                is_paper(guarding(1), [(bring("x"), numbers, 0, ("endless",))])
+            self.assertEqual(caught.exception.name, "x")
+
     def test_what_is_passed_stays(self):
         rows = calls(filling(3), [bring("a")])
         before = [(statement.text(), numbers, rank, dict(found[1])) for statement, numbers, rank, found in rows]

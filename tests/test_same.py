@@ -110,6 +110,13 @@ class Unlike(LeastTables):
         # With one row the triggers add 0 together, with two 0 as well, with three 1.
         self.lists(book, [turn("a", "a")], [], 3)
 
+    def test_a_worth_rather_than_one_more_row(self):
+        form = Form({"n": 1, "a": 1}, -2)
+        book = Book(["a"], ["m", "n"], [Trigger("t", ["a"], [], [(["a"], 1, None)], [("add", "m", form)]),
+                                        Trigger("u", ["a"], [], [(["a"], 1, 1)], [("add", "m", form * -1)])])
+        self.assertEqual(book.cap, 2)
+        self.lists(book, [turn("a", "a")], [], 2)
+
     def test_worths_of_counters(self):
         book = seen_by("t", [], ("set", "n", Form({"m": 1})), ("set", "m", Form({"n": 1})))
         self.lists(book, [Statement({}), turn("a", "a")], [], 0)
@@ -240,6 +247,19 @@ class BooksUnlike(LeastTables):
             *four.triggers[:2], Trigger("v", ["a"], [], [(["old.a"], 0, 3)], [("add", "n", Form({"old.a": -1}))]),
             Trigger("w", ["a"], [], [], [("add", "n", Form({"old.a": 1}))])])
         self.books(more, four, [turn("a", "a")], 4)
+
+    def test_the_statement_that_needs_fewer_rows(self):
+        form = Form({"b": 1}, -2)
+        more = Trigger("t", ["b"], [], [(["b"], 1, None)], [("add", "n", form)])
+        less = Trigger("u", ["b"], [], [(["b"], 1, 1)], [("add", "n", form * -1)])
+        other = Trigger("v", ["a"], [], [(["b"], 1, None)], [("add", "n", Form({"b": 1}, -1))])
+        plain, book = Book(["a", "b"], ["n"], []), Book(["a", "b"], ["n"], [more, less, other])
+        self.assertEqual(book.cap, 2)
+        # Both are unlike in the class of two rows, but one of them with three rows only.
+        self.books(plain, book, [turn("b", "b")], 3)
+        self.books(plain, book, [turn("a", "a")], 2)
+        self.books(plain, book, [turn("a", "a"), turn("b", "b")], 2)
+        self.books(plain, book, [turn("b", "b"), turn("a", "a")], 2)
 
     def test_which_trigger_refuses_does_not_count(self):
         books = [Book(["a"], [], [Trigger(name, ["a"], [], [(["old.a"], 2, None)], ["refuse"])]) for name in ("p", "q")]
