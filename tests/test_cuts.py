@@ -304,6 +304,12 @@ class Uncuttable(unittest.TestCase):
         deeds = [("add", "n", Form({"a": 1, "b": -2}, -1))]
         self.check(Book(["a", "b"], ["n"], [Trigger("t", ["a"], [], [], deeds)]), turn("a"), 3)
 
+    def test_a_table_with_fewer_rows_comes_later(self):
+        # If both goes take rows of b it takes three rows to see it, otherwise two.
+        book = Book(["a", "b"], ["n"], [Trigger("t", ["a", "b"], [], [], [("add", "n", Form({"b": 1}, -1))])])
+        self.check(book, turn("b"), 3)
+        self.check(book, Statement({"a": [], "b": []}), 2)
+
     def test_whichever_trigger_refuses(self):
         first = Trigger("p", ["a"], [], [(["old.a"], 1, 1)], ["refuse"])
         second = Trigger("q", ["a"], [], [(["old.a"], 2, None)], ["refuse"])

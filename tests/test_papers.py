@@ -255,6 +255,21 @@ class Calls(unittest.TestCase):
         self.assertEqual({row[0] for row in self.shown(book, [bring("a")])}, {"+a 1", "+b 1"})
         self.assertEqual({row[2] for row in self.shown(book, [bring("b")])}, {0})
 
+    def test_many_calls_within_calls(self):
+        # The triggers count in three figures, each number within the one before.
+        book = Book(["a", "b", "c", "d"], ["n"], [
+            Trigger("t", [], ["a"], [(["a"], 1, 2), (["d"], 0, 0)], [bring("a"), ("add", "n", Form({}, 1))]),
+            Trigger("u", [], ["a"], [(["a"], 3, 3), (["d"], 0, 0), (["b"], 0, 2)],
+                    [Statement({"a": []}, {"a": 1, "b": 1})]),
+            Trigger("v", [], ["a"], [(["a"], 3, 3), (["b"], 3, None), (["c"], 0, 2)],
+                    [Statement({"a": [], "b": []}, {"a": 1, "c": 1})]),
+            Trigger("w", [], ["a"], [(["c"], 3, None), (["b"], 3, None), (["d"], 0, 0)], [bring("d")])])
+        self.assertEqual(effect(book, bring("a"), (0, 0, 0, 0)), {"a": "3", "b": "3", "c": "3", "d": "1", "n": "1 n + 32"})
+        rows = calls(book, [bring("a")])
+        self.assertEqual(max(row[2] for row in rows), 48)
+        self.assertEqual([row[2] for row in rows if row[:2] == (bring("a"), (0, 0, 0, 0))], [48])
+        self.assertTrue(is_paper(book, rows))
+
     def test_the_same_statement_twice(self):
         self.assertEqual(calls(adding(), [DONE, bring("open"), DONE]), calls(adding(), [bring("open"), DONE]))
 
